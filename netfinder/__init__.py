@@ -1,0 +1,1 @@
+"""Netfinder: charts, and the nets whose run they are."""
