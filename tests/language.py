@@ -17,6 +17,9 @@ METHODS = set(
     "isupper items join keys ljust lower lstrip partition pop remove replace reverse rfind rjust rpartition "
     "rsplit rstrip setdefault split splitlines startswith strip update upper values zfill bit_length".split()
 )
+WALKED = set("zip enumerate reversed range items keys values".split())
+WALKERS = set("list tuple dict sorted sum any all enumerate zip".split())
+CHANGERS = set("append clear extend insert pop remove reverse setdefault update".split())
 OWN_METHODS = set("__init__ __eq__ __repr__ __str__ __len__".split())
 NEVER_NAMES = set(
     "register mro elements open input version_info with_traceback add_note format format_map chr attrgetter "
@@ -215,11 +218,60 @@ def top_faults(tree):
     return faults
 
 
+def walked_calls(tree):
+    """The nodes that walk at once what stands in them, by the call that they walk (L23)."""
+    walked = []
+    for node in ast.walk(tree):
+        if isinstance(node, (ast.For, ast.comprehension)):
+            walked.append(node.iter)
+        elif isinstance(node, ast.Call) and node.args:
+            called = node.func.id if isinstance(node.func, ast.Name) else None
+            joins = isinstance(node.func, ast.Attribute) and node.func.attr == "join"
+            if called in WALKERS or joins or (called in ("min", "max") and len(node.args) == 1):
+                walked.append(node.args[0])
+    return walked
+
+
+def changes(node, name):
+    """Whether a node changes the list or dict of this name."""
+    if isinstance(node, ast.Subscript) and isinstance(node.ctx, ast.Store):
+        return isinstance(node.value, ast.Name) and node.value.id == name
+    if isinstance(node, ast.Attribute) and node.attr in CHANGERS:
+        return isinstance(node.value, ast.Name) and node.value.id == name
+    return False
+
+
+def walk_faults(tree):
+    walked = walked_calls(tree)
+    faults = []
+    for node in ast.walk(tree):
+        if isinstance(node, ast.Call):
+            called = node.func.id if isinstance(node.func, ast.Name) else getattr(node.func, "attr", None)
+            if called in WALKED and not any(node is one for one in walked):
+                faults.append(("L23", node.lineno))
+        if isinstance(node, ast.For):
+            for name in [one.id for one in ast.walk(node.iter) if isinstance(one, ast.Name)]:
+                within = [one for row in node.body for one in ast.walk(row)]
+                faults += [("L23", one.lineno) for one in within if changes(one, name)]
+    return faults
+
+
+def shadow_faults(tree):
+    """Parameters and locals that are called like an import, a class or a def of the file's top (L15)."""
+    tops = [node for node in tree.body if isinstance(node, (ast.ImportFrom, ast.ClassDef, ast.FunctionDef))]
+    taken = {name for node in tops for one in [node] + getattr(node, "names", []) for name in bound_names(one)}
+    defs = [node for node in ast.walk(tree) if isinstance(node, (ast.FunctionDef, ast.Lambda))]
+    within = [one for node in defs for one in ast.walk(node) if one is not node]
+    methods = [one for node in tree.body if isinstance(node, ast.ClassDef) for one in node.body]
+    locals_of = [one for one in within if not any(one is method for method in methods)]
+    return [("L15", one.lineno) for one in locals_of for name in bound_names(one) if name in taken]
+
+
 def faults_of(source):
     """The faults of a file that is not __main__.py, as a sorted list of tuples (rule, row)."""
     tree = ast.parse(source)
     opening = tree.body[0] if tree.body and ast.get_docstring(tree) is not None else None
-    faults = row_faults(source) + top_faults(tree) + attribute_faults(tree)
+    faults = row_faults(source) + top_faults(tree) + attribute_faults(tree) + walk_faults(tree) + shadow_faults(tree)
     for node in ast.walk(tree):
         faults += name_faults(node)
         if isinstance(node, ast.stmt) and node is not opening:

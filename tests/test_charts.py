@@ -4,6 +4,7 @@ import copy
 import unittest
 
 from netfinder.charts import goes_to, has_move, is_chart, states_of
+from tests.asking import called_once
 
 RING = (("a", "b"), [(0, "a", 1), (1, "b", 0)])
 NO_ARCS = (("a",), [])
@@ -19,13 +20,6 @@ FIVE = ("a", "b", "c", "d", "e")
 
 def sixty_arcs():
     return [(state, move, (state + 1) % 12) for state in range(12) for move in FIVE]
-
-
-def called_once(function, *handed):
-    """The answer, and whether what was handed in stayed as it was."""
-    before = copy.deepcopy(handed)
-    answer = function(*handed)
-    return answer, handed == before
 
 
 class TestStatesOf(unittest.TestCase):
