@@ -45,19 +45,23 @@ def are_arcs(arcs, moves):
     return all([is_state(first) and move in moves and is_state(second) for first, move, second in arcs])
 
 
-def come_to(arcs):
+# The arcs by which the states other than 0 are met, in the order in which they are. Arcs rise, so those that
+# go from one state stand move by move.
+def tree_of(arcs):
     met = [0]
+    tree = []
     looked_at = 0
     while looked_at < len(met):
-        for first, move, second in arcs:
-            if first == met[looked_at] and second not in met:
-                met.append(second)
+        for arc in arcs:
+            if arc[0] == met[looked_at] and arc[2] not in met:
+                met.append(arc[2])
+                tree.append(arc)
         looked_at = looked_at + 1
-    return met
+    return tree
 
 
 def is_chart(moves, arcs):
     if not are_moves(moves) or not are_arcs(arcs, moves):
         return False
-    # No state that is met lies outside the chart, so as many met as there are means all of them.
-    return len(come_to(arcs)) == states_of((moves, arcs))
+    # Each state but 0 that is met has one arc of the tree, and none that is met lies outside the chart.
+    return 1 + len(tree_of(arcs)) == states_of((moves, arcs))
