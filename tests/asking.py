@@ -1,6 +1,8 @@
 """How the tests ask: what is handed in must stay as it was, and what is told must be the asker's own [2]."""
 
+import contextlib
 import copy
+import signal
 
 
 def called_once(function, *handed):
@@ -45,3 +47,19 @@ def refused(test, error, function, *handed):
             function(*handed)
         test.assertIs(type(caught.exception), error)
     test.assertEqual(handed, before, "what was handed in was changed")
+
+
+@contextlib.contextmanager
+def in_good_time(seconds):
+    """What is done within fails where it takes longer than so many seconds."""
+
+    def too_long(number, frame):
+        raise AssertionError(f"it took longer than {seconds} seconds")
+
+    earlier = signal.signal(signal.SIGALRM, too_long)
+    signal.alarm(seconds)
+    try:
+        yield
+    finally:
+        signal.alarm(0)
+        signal.signal(signal.SIGALRM, earlier)
