@@ -102,7 +102,8 @@ class TestAbove(unittest.TestCase):
         # Each row takes the next one up more than the last: the rows lie within one half, if barely.
         steep = [tuple(10 if at == place else -1 if at == place + 1 else 0 for at in range(6)) for place in range(6)]
         self.told("row", steep + [row[::-1] for row in steep], 6)
-        ring = [tuple(1 if at == place else -2 if at == (place + 1) % 6 else 0 for at in range(6)) for place in range(6)]
+        turns = [(1, -2, 0, 0, 0, 0)[-place:] + (1, -2, 0, 0, 0, 0)[:-place] for place in range(1, 6)]
+        ring = [(1, -2, 0, 0, 0, 0)] + turns
         self.told("row", ring, 6)
         self.told("sum", ring + [(1, 1, 1, 1, 1, 1)], 6)
         self.told("sum", ring + [(2, 1, 1, 1, 1, 1)] * 6, 6)
@@ -121,8 +122,8 @@ class TestAbove(unittest.TestCase):
 
     def test_rows_around_which_worse_choices_go_for_ever(self):
         self.told("row", [(3, 3, -2), (2, -2, -1), (3, -1, 0), (2, 3, -2), (2, -2, 0), (3, 1, 0), (0, 0, 3)], 3)
-        rows = [(3, 1, -2), (1, 2, -1), (3, 1, -3), (1, -1, 0), (1, 3, 3), (1, 1, 3), (0, -2, 3), (2, 3, 2), (3, -1, -1)]
-        self.told("row", rows + [(3, 2, 1)], 3)
+        rows = [(3, 1, -2), (1, 2, -1), (3, 1, -3), (1, -1, 0), (1, 3, 3), (1, 1, 3), (0, -2, 3), (2, 3, 2)]
+        self.told("row", rows + [(3, -1, -1), (3, 2, 1)], 3)
         rows = [(0, 3, 3), (3, 0, 2), (2, 1, 1), (1, 0, 3), (-1, 2, 3), (-3, 2, 3), (2, 3, 2), (0, -1, 3), (1, 1, 2)]
         self.told("row", rows, 3)
 

@@ -108,7 +108,8 @@ class TestAgainst(unittest.TestCase):
 
     def test_one_with_both_ways_alike(self):
         self.told("moves a; 0 a 1; 0 a 2", "moves a; 1 a 1 0", ("one", ("a",), ("a",)))
-        self.told("moves a b; 0 b 1; 1 a 2; 1 a 3", "moves a b; 1 b 1 0; 0 b 0 1 a 1 0", ("one", ("b", "a"), ("b", "a")))
+        net = "moves a b; 1 b 1 0; 0 b 0 1 a 1 0"
+        self.told("moves a b; 0 b 1; 1 a 2; 1 a 3", net, ("one", ("b", "a"), ("b", "a")))
 
     def test_one_with_a_state_that_was_not_looked_at_yet(self):
         net = "moves a b; 1 a 1 0 b 1 0; 0 a 0 1 b 0 1"

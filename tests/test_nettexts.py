@@ -124,7 +124,8 @@ class TestReadNet(unittest.TestCase):
     def test_words_that_are_refused(self):
         for sign in ("A", ",", ".", "-", "_", "\t", "\n", "\u00e9", "\u0663", "\u00a0"):
             self.no_text(sign, sign + TEXT, TEXT + sign, "moves a" + sign, "moves a; 0 a" + sign + " 1 1")
-        self.no_text("moves a; -1", "moves a; 0 a -1 0", "moves a; 1.5", "moves a; 01", "moves a; 0 a 01 0", "moves a; 00")
+        self.no_text("moves a; -1", "moves a; 0 a -1 0", "moves a; 1.5", "moves a; 01", "moves a; 0 a 01 0")
+        self.no_text("moves a; 00")
         self.no_text("moves a; 0 a 0 00", "moves a; " + "1" * 61, "moves a; 0 a " + "1" * 61 + " 0")
         self.no_text("moves a; 0 a 0 " + "1" * 61, "moves a; " + "9" * 5000)
 

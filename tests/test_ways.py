@@ -160,7 +160,8 @@ class TestRings(unittest.TestCase):
         rings = asked(self, rings_of, TWELVE)
         self.assertEqual(len(rings), 49)
         self.assertEqual(rings[:4], [(-1, 1, 0, 0, 0), (-1, 0, 1, 0, 0), (-1, 0, 0, 1, 0), (-1, 0, 0, 0, 1)])
-        self.assertEqual(rings[-5:], [(12, 0, 0, 0, 0), (11, 1, 0, 0, 0), (11, 0, 1, 0, 0), (11, 0, 0, 1, 0), (11, 0, 0, 0, 1)])
+        self.assertEqual(rings[-5:-3], [(12, 0, 0, 0, 0), (11, 1, 0, 0, 0)])
+        self.assertEqual(rings[-3:], [(11, 0, 1, 0, 0), (11, 0, 0, 1, 0), (11, 0, 0, 0, 1)])
 
     def test_many_charts(self):
         for chart in many_charts():
