@@ -219,7 +219,7 @@ def top_faults(tree):
 
 
 def walked_calls(tree):
-    """The nodes that walk at once what stands in them, by the call that they walk (L23)."""
+    """What is walked on the spot: behind the in of a loop, or in a call that walks it at once (L23)."""
     walked = []
     for node in ast.walk(tree):
         if isinstance(node, (ast.For, ast.comprehension)):
